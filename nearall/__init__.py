@@ -1,0 +1,1 @@
+"""Nearall: words near to several words."""

@@ -1,0 +1,90 @@
+"""What several files of tests need: books to go through, and things that are none."""
+
+from itertools import product
+
+
+def all_words(letters, length):
+    return list(product(range(letters), repeat=length))
+
+
+def far(one, other):
+    return sum(a != b for a, b in zip(one, other, strict=True))
+
+
+def small_even_books():
+    """Every even book of a few small shapes."""
+    shapes = [(1, 0, 1), (3, 0, 2), (1, 3, 2), (2, 1, 3), (2, 3, 1), (2, 3, 2), (2, 2, 4), (3, 2, 1), (3, 2, 3)]
+    for letters, length, how_many in shapes:
+        for words in product(all_words(letters, length), repeat=how_many):
+            yield (letters, words)
+
+
+def large_even_books():
+    """Some books of up to five words of up to six letters, with no pattern that a place could hide in."""
+    seed = 7
+    for letters in (1, 2, 3):
+        for length in (0, 1, 4, 5, 6):
+            for how_many in (1, 2, 3, 5):
+                words = []
+                for _ in range(how_many):
+                    word = []
+                    for _ in range(length):
+                        seed = (seed * 1103515245 + 12345) % 2147483648
+                        word.append((seed >> 16) % letters)
+                    words.append(tuple(word))
+                yield (letters, tuple(words))
+
+
+def even_books():
+    yield from small_even_books()
+    yield from large_even_books()
+
+
+class Anything:
+    """A thing that can be neither compared, measured, walked nor shown."""
+
+    def refuse(self, *others):
+        raise RuntimeError("not to be asked")
+
+    __eq__ = __lt__ = __le__ = __gt__ = __ge__ = refuse
+    __len__ = __iter__ = __getitem__ = __bool__ = __repr__ = __str__ = __index__ = refuse
+    __hash__ = None
+
+
+UNEVEN = (2, ((0, 1), (1,)))
+
+OTHER_KINDS = [
+    None, True, False, 0, 1, -1, 1.0, 2.5, "", "2/01", b"2", [], {}, set(), frozenset(), (), object(), Anything(),
+    int, len, range(2), iter([]),
+]
+
+NO_BOOKS = OTHER_KINDS + [
+    # lists in a tuple's stead
+    [2, ((0, 1),)], (2, [(0, 1)]), (2, ([0, 1],)), (2, ((0, 1), [0, 1])),
+    # other kinds in a tuple's stead
+    (2, "01"), (2, ("01",)), (2, {(0, 1): True}), (2, None), (2, 1), (2, (1,)), (2, (None,)), (2, Anything()),
+    (2, (Anything(),)), (2, range(2)), (2, (range(2),)), {2: ((0, 1),)},
+    # too few or too many parts
+    (2,), (2, ((0,),), ()), ((0,), 2), ((0, 1), (1, 0)),
+    # letters
+    (0, ((),)), (0, ((0,),)), (4, ((0, 1),)), (4, ((3,),)), (-1, ((),)), (True, ((0,),)), (False, ((),)),
+    (2.0, ((0, 1),)), ("2", ((0, 1),)), (None, ((0, 1),)), ((2,), ((0, 1),)), (Anything(), ((0, 1),)),
+    (10 ** 5000, ((0, 1),)),
+    # how many words
+    (2, ()), (2, ((),) * 6), (2, ((0, 1),) * 6),
+    # how long a word is
+    (2, ((0,) * 7,)), (2, ((0,), (1,) * 7)),
+    # a letter
+    (1, ((1,),)), (2, ((0, 2),)), (3, ((3,),)), (3, ((0, 1), (0, 3))), (2, ((-1,),)), (2, ((True,),)),
+    (2, ((0, False),)), (2, ((0.0,),)), (2, (("0",),)), (2, ((None,),)), (2, (((0,),),)), (2, ((Anything(),),)),
+    (2, ((10 ** 5000,),)),
+]
+
+# Books that are as great or as small as can be, and books in between.
+BOOKS = [
+    (1, ((),)), (3, ((),)), (1, ((0,),)), (3, ((2,),)), (2, ((0, 1),)), (1, ((0,) * 6,) * 5),
+    (3, ((0, 1, 2, 2, 1, 0),) * 5), (3, ((0, 1, 2), (2, 2, 2), (0, 0, 1))), (2, ((), (), (), (), ())),
+    UNEVEN, (3, ((), (0,), (0, 1), (2, 1, 0), (0, 1, 2, 0, 1, 2))), (2, ((0, 0, 0, 1, 0, 0), ())),
+]
+
+NO_NUMBERS = [-1, -7, True, False, "0", "", 0.0, 1.5, None, [], (), {}, (0,), b"0", object(), Anything()]
