@@ -1,6 +1,6 @@
 """Books of words, and how far a word and the words of a book are apart."""
 
-from nearall.errors import NoBook, NoWord, Uneven
+from nearall.errors import NoBook, NoNumber, NoWord, Uneven
 
 MOST_LETTERS = 3
 MOST_WORDS = 5
@@ -58,6 +58,11 @@ def check_word(book, word):
     length = even_length(book)
     if not is_word(word, book[0], length) or len(word) != length:
         raise NoWord("this is no word of the book's length and letters")
+
+
+def check_number(thing):
+    if not is_whole(thing) or thing < 0:
+        raise NoNumber("a reach is a whole number from 0 on")
 
 
 def apart(one, other):

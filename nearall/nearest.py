@@ -1,7 +1,6 @@
 """Words whose reach is the least, or at most some number."""
 
-from nearall.books import distances, even_length, is_whole, words_of_length
-from nearall.errors import NoNumber
+from nearall.books import check_number, distances, even_length, words_of_length
 
 
 def candidates(book):
@@ -12,8 +11,7 @@ def candidates(book):
 def words_within(book, most):
     # The candidates come first: a refused book goes before a refused number.
     words = candidates(book)
-    if not is_whole(most) or most < 0:
-        raise NoNumber("a reach is a whole number from 0 on")
+    check_number(most)
     return [word for word in words if max(distances(book, word)) <= most]
 
 

@@ -2,6 +2,8 @@
 
 from itertools import product
 
+from nearall.errors import NoBook, Uneven
+
 
 def all_words(letters, length):
     return list(product(range(letters), repeat=length))
@@ -40,6 +42,35 @@ def even_books():
     yield from large_even_books()
 
 
+def gone_through(book):
+    """Every word of the book's length, in order, with its reach and its sum."""
+    letters, words = book
+    told = []
+    for word in all_words(letters, len(words[0])):
+        away = [far(word, other) for other in words]
+        told.append((word, max(away), sum(away)))
+    return told
+
+
+def some_weights(how_many):
+    """Tuples of weights: all of few different weights, the greatest ones, and some with no pattern."""
+    yield from (weights for weights in product((0, 1), repeat=how_many) if any(weights))
+    yield (99,) * how_many
+    yield tuple(6 * number + 4 for number in range(how_many))
+    yield (2, 7, 0, 99, 30)[:how_many]
+    yield (98, 0, 49, 7, 0)[:how_many]
+
+
+def least_weighed(book, weights, taken):
+    """The least, of all words with the letters taken, that a word is apart from the book's words by their weights."""
+    letters, words = book
+    return min(
+        sum(weight * far(word, other) for weight, other in zip(weights, words, strict=True))
+        for word in all_words(letters, len(words[0]))
+        if all(word[place] == letter for place, letter in taken.items())
+    )
+
+
 class Anything:
     """A thing that can be neither compared, measured, walked nor shown."""
 
@@ -52,6 +83,7 @@ class Anything:
 
 
 UNEVEN = (2, ((0, 1), (1,)))
+UNEVEN_BOOKS = [UNEVEN, (1, ((), (0,))), (3, ((0, 1), (2, 2), (0, 1, 2)))]
 
 OTHER_KINDS = [
     None, True, False, 0, 1, -1, 1.0, 2.5, "", "2/01", b"2", [], {}, set(), frozenset(), (), object(), Anything(),
@@ -88,3 +120,22 @@ BOOKS = [
 ]
 
 NO_NUMBERS = [-1, -7, True, False, "0", "", 0.0, 1.5, None, [], (), {}, (0,), b"0", object(), Anything()]
+
+# What is no tuple of weights for three words.
+NO_WEIGHTS = OTHER_KINDS + [
+    (0, 0, 0), (1, 1), (1,), (1, 1, 1, 1), [1, 1, 1], {1: 1, 2: 1, 3: 1}, "111", b"111", range(3), (1, 1, 100),
+    (100, 0, 0), (1, -1, 1), (0, 0, -1), (True, 1, 1), (1, 1, False), (1.0, 1, 1), (1, 2.5, 1), ("1", 1, 1),
+    (1, None, 1), ((1,), 1, 1), (1, 1, Anything()), (1, 1, [1]), (10 ** 5000, 1, 1),
+]
+
+
+def hold_refusals_of_books(test, ask):
+    """Hold that what is no book, and a book that is not even, is refused, and the first before the second."""
+    for number, thing in enumerate(NO_BOOKS):
+        with test.subTest(ask=ask, number=number):
+            test.assertRaises(NoBook, ask, thing)
+    for book in UNEVEN_BOOKS:
+        with test.subTest(ask=ask, book=book):
+            test.assertRaises(Uneven, ask, book)
+    test.assertRaises(NoBook, ask, (2, ((0, 2), (1,))))
+    test.assertRaises(NoBook, ask, (4, ((0, 1), (1,))))

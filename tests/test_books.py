@@ -3,7 +3,10 @@ import unittest
 from nearall.books import checked, reach, total, turned_about
 from nearall.errors import NoBook, NoWord, Uneven
 
-from support import BOOKS, NO_BOOKS, OTHER_KINDS, UNEVEN, Anything, all_words, even_books, far, small_even_books
+from support import (
+    BOOKS, NO_BOOKS, OTHER_KINDS, UNEVEN, Anything, all_words, even_books, far, hold_refusals_of_books,
+    small_even_books,
+)
 
 
 class CheckedTest(unittest.TestCase):
@@ -51,17 +54,9 @@ class ReachAndTotalTest(unittest.TestCase):
                 self.assertEqual(reach(book, word), max(away))
                 self.assertEqual(total(book, word), sum(away))
 
-    def test_what_is_no_book_is_refused(self):
-        for ask in (reach, total):
-            for number, thing in enumerate(NO_BOOKS):
-                with self.subTest(ask=ask, number=number), self.assertRaises(NoBook):
-                    ask(thing, (0, 1))
-
-    def test_an_uneven_book_is_refused(self):
-        for ask in (reach, total):
-            for book in [UNEVEN, (1, ((), (0,))), (3, ((0, 1), (2, 2), (0, 1, 2)))]:
-                with self.subTest(ask=ask, book=book), self.assertRaises(Uneven):
-                    ask(book, book[1][0])
+    def test_what_is_no_even_book_is_refused(self):
+        hold_refusals_of_books(self, lambda thing: reach(thing, (0, 1)))
+        hold_refusals_of_books(self, lambda thing: total(thing, (0, 1)))
 
     def test_what_is_no_word_is_refused(self):
         book = (2, ((0, 1), (1, 1)))

@@ -4,17 +4,7 @@ from nearall.books import turned_about
 from nearall.errors import NoBook, NoNumber, Uneven
 from nearall.nearest import count_within, first_within, nearest, nearest_of_all
 
-from support import NO_BOOKS, NO_NUMBERS, UNEVEN, Anything, all_words, even_books, far
-
-
-def gone_through(book):
-    """Every word of the book's length, in order, with its reach and its sum."""
-    letters, words = book
-    told = []
-    for word in all_words(letters, len(words[0])):
-        away = [far(word, other) for other in words]
-        told.append((word, max(away), sum(away)))
-    return told
+from support import NO_NUMBERS, UNEVEN, Anything, even_books, gone_through, hold_refusals_of_books
 
 
 class AgainstAllWordsTest(unittest.TestCase):
@@ -114,21 +104,11 @@ class EdgesTest(unittest.TestCase):
 
 
 class RefusalsTest(unittest.TestCase):
-    def test_what_is_no_book_is_refused(self):
-        for number, thing in enumerate(NO_BOOKS):
-            with self.subTest(number=number):
-                self.assertRaises(NoBook, nearest, thing)
-                self.assertRaises(NoBook, nearest_of_all, thing)
-                self.assertRaises(NoBook, count_within, thing, 1)
-                self.assertRaises(NoBook, first_within, thing, 1)
-
-    def test_an_uneven_book_is_refused(self):
-        for book in [UNEVEN, (1, ((), (0,))), (3, ((0, 1), (2, 2), (0, 1, 2)))]:
-            with self.subTest(book=book):
-                self.assertRaises(Uneven, nearest, book)
-                self.assertRaises(Uneven, nearest_of_all, book)
-                self.assertRaises(Uneven, count_within, book, 1)
-                self.assertRaises(Uneven, first_within, book, 1)
+    def test_what_is_no_even_book_is_refused(self):
+        hold_refusals_of_books(self, nearest)
+        hold_refusals_of_books(self, nearest_of_all)
+        hold_refusals_of_books(self, lambda thing: count_within(thing, 1))
+        hold_refusals_of_books(self, lambda thing: first_within(thing, 1))
 
     def test_what_is_no_number_is_refused(self):
         for book in [(2, ((0, 1), (1, 1))), (1, ((),))]:
@@ -144,8 +124,6 @@ class RefusalsTest(unittest.TestCase):
                 self.assertRaises(NoBook, ask, (4, ((0, 1), (1,))), -1)
                 self.assertRaises(Uneven, ask, UNEVEN, -1)
                 self.assertRaises(Uneven, ask, UNEVEN, Anything())
-        self.assertRaises(NoBook, nearest, (2, ((0, 2), (1,))))
-        self.assertRaises(NoBook, nearest_of_all, (2, ((0, 2), (1,))))
 
 
 if __name__ == "__main__":
