@@ -16,6 +16,11 @@ def is_whole_within(thing, least, most):
     return is_whole(thing) and least <= thing <= most
 
 
+def begins_with_text(thing):
+    # What begins a thing of any kind may be compared with texts only if it is one.
+    return isinstance(thing, tuple) and len(thing) > 0 and isinstance(thing[0], str)
+
+
 def is_word(thing, letters, longest):
     if not isinstance(thing, tuple) or len(thing) > longest:
         return False

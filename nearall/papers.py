@@ -1,6 +1,6 @@
 """Papers: trees of letters that show that no word has a reach below a whole number."""
 
-from nearall.books import check_number, even_length, is_whole_within, words_of_length
+from nearall.books import begins_with_text, check_number, even_length, is_whole_within, words_of_length
 from nearall.bounds import is_weights, least_weight
 from nearall.nearest import nearest
 
@@ -37,8 +37,7 @@ def branches_show(book, number, tree, taken):
 
 
 def tree_shows(book, number, tree, taken):
-    # A thing of any kind may stand here: it is compared with a text only if it is one.
-    if not isinstance(tree, tuple) or len(tree) == 0 or not isinstance(tree[0], str):
+    if not begins_with_text(tree):
         return False
     if tree[0] == "weights":
         return leaf_shows(book, number, tree, taken)

@@ -1,5 +1,6 @@
 """What several files of tests need: books to go through, and things that are none."""
 
+from functools import lru_cache
 from itertools import product
 
 from nearall.errors import NoBook, Uneven
@@ -11,6 +12,22 @@ def all_words(letters, length):
 
 def far(one, other):
     return sum(a != b for a, b in zip(one, other, strict=True))
+
+
+def words_up_to(letters, longest):
+    """All words of at most so many letters, in order: by their lengths, those of one length as tuples."""
+    return [word for length in range(longest + 1) for word in all_words(letters, length)]
+
+
+@lru_cache(maxsize=None)
+def steps_between(one, other):
+    """How many letters have at least to be turned, put in or left out to make the one word the other."""
+    if not one or not other:
+        return len(one) + len(other)
+    if one[-1] == other[-1]:
+        return steps_between(one[:-1], other[:-1])
+    return 1 + min(
+        steps_between(one[:-1], other[:-1]), steps_between(one[:-1], other), steps_between(one, other[:-1]))
 
 
 def small_even_books():
@@ -119,6 +136,12 @@ BOOKS = [
     UNEVEN, (3, ((), (0,), (0, 1), (2, 1, 0), (0, 1, 2, 0, 1, 2))), (2, ((0, 0, 0, 1, 0, 0), ())),
 ]
 
+# What is no word of whatever book.
+NO_WORDS = [thing for thing in OTHER_KINDS if not isinstance(thing, tuple)] + [
+    [0, 1], "01", b"01", range(2), {0: 1}, (3,), (0, 3), (-1,), (0, -1), (True,), (0, False), (0.0,), (0, 1.5), ("0",),
+    (None,), ((0,),), (0, [1]), (Anything(),), (0, Anything()), (10 ** 5000,), (-10 ** 5000,),
+]
+
 NO_NUMBERS = [-1, -7, True, False, "0", "", 0.0, 1.5, None, [], (), {}, (0,), b"0", object(), Anything()]
 
 # What is no tuple of weights for three words.
@@ -129,11 +152,16 @@ NO_WEIGHTS = OTHER_KINDS + [
 ]
 
 
+def hold_refusals(test, refusal, ask, things):
+    """Hold that each of the things is refused in this way; not all of them can be shown."""
+    for number, thing in enumerate(things):
+        with test.subTest(ask=ask, number=number):
+            test.assertRaises(refusal, ask, thing)
+
+
 def hold_refusals_of_books(test, ask):
     """Hold that what is no book, and a book that is not even, is refused, and the first before the second."""
-    for number, thing in enumerate(NO_BOOKS):
-        with test.subTest(ask=ask, number=number):
-            test.assertRaises(NoBook, ask, thing)
+    hold_refusals(test, NoBook, ask, NO_BOOKS)
     for book in UNEVEN_BOOKS:
         with test.subTest(ask=ask, book=book):
             test.assertRaises(Uneven, ask, book)

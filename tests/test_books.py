@@ -4,8 +4,8 @@ from nearall.books import checked, reach, total, turned_about
 from nearall.errors import NoBook, NoWord, Uneven
 
 from support import (
-    BOOKS, NO_BOOKS, OTHER_KINDS, UNEVEN, Anything, all_words, even_books, far, hold_refusals_of_books,
-    small_even_books,
+    BOOKS, NO_BOOKS, OTHER_KINDS, UNEVEN, Anything, all_words, even_books, far, hold_refusals,
+    hold_refusals_of_books, small_even_books,
 )
 
 
@@ -20,9 +20,7 @@ class CheckedTest(unittest.TestCase):
             self.assertEqual(checked(book), book)
 
     def test_what_is_no_book_is_refused(self):
-        for number, thing in enumerate(NO_BOOKS):
-            with self.subTest(number=number), self.assertRaises(NoBook):
-                checked(thing)
+        hold_refusals(self, NoBook, checked, NO_BOOKS)
 
 
 class ReachAndTotalTest(unittest.TestCase):
@@ -106,9 +104,7 @@ class TurnedAboutTest(unittest.TestCase):
             self.assertEqual(turned_about(once), book)
 
     def test_what_is_no_book_is_refused(self):
-        for number, thing in enumerate(NO_BOOKS):
-            with self.subTest(number=number), self.assertRaises(NoBook):
-                turned_about(thing)
+        hold_refusals(self, NoBook, turned_about, NO_BOOKS)
 
 
 if __name__ == "__main__":

@@ -1,9 +1,11 @@
 """What the document says of the whole program."""
 
 import copy
+import inspect
 import unittest
+from itertools import product
 
-from nearall import books, bounds, errors, kinds, nearest, papers, sums
+from nearall import books, bounds, errors, gaps, kinds, nearest, others, papers, sums, texts, wide
 
 from support import BOOKS, large_even_books
 
@@ -22,7 +24,46 @@ ASKED = [
     bounds.far_pair,
     papers.paper,
     kinds.kinds,
+    lambda book: wide.wide_reach(book, book[1][-1]),
+    lambda book: wide.wide_sum(book, book[1][-1]),
+    wide.wide_nearest,
+    wide.wide_least_sum,
+    lambda book: others.with_word(book, (0,)),
+    lambda book: others.without(book, 0),
+    lambda book: others.joined(book, book),
+    others.growing,
+    texts.shown,
+    lambda book: texts.read(texts.shown(book)),
 ]
+
+ASKED_OF_WORDS = [
+    gaps.steps,
+    gaps.way,
+    lambda one, other: gaps.done(one, gaps.way(one, other)),
+]
+
+SOME_WORDS = [(), (0,), (2, 1), (0, 1, 2), (1, 2, 0, 0), (0, 1) * 3, (2, 0, 1) * 3]
+
+INTERFACE = {
+    books: {"checked": ["book"], "turned_about": ["book"], "reach": ["book", "word"], "total": ["book", "word"]},
+    nearest: {
+        "nearest": ["book"], "count_within": ["book", "most"], "first_within": ["book", "most"],
+        "nearest_of_all": ["book"],
+    },
+    sums: {"least_sum": ["book"], "count_least_sum": ["book"]},
+    bounds: {"bound": ["book", "weights"], "far_pair": ["book"]},
+    papers: {"paper": ["book"], "shows": ["book", "number", "thing"]},
+    kinds: {"kinds": ["book"], "book_of": ["letters", "some"]},
+    gaps: {"done": ["word", "deeds"], "steps": ["one", "other"], "way": ["one", "other"]},
+    wide: {
+        "wide_reach": ["book", "word"], "wide_sum": ["book", "word"], "wide_nearest": ["book"],
+        "wide_least_sum": ["book"],
+    },
+    others: {
+        "with_word": ["book", "word"], "without": ["book", "number"], "joined": ["one", "other"], "growing": ["book"],
+    },
+    texts: {"shown": ["book"], "read": ["text"]},
+}
 
 
 def shown_or_not(book):
@@ -51,18 +92,32 @@ class WholeTest(unittest.TestCase):
     def setUp(self):
         self.books = BOOKS + list(large_even_books())
 
+    def test_each_function_of_the_interface_is_there_with_its_arguments(self):
+        for module, functions in INTERFACE.items():
+            for name, arguments in functions.items():
+                with self.subTest(module=module.__name__, name=name):
+                    self.assertEqual(list(inspect.signature(getattr(module, name)).parameters), arguments)
+
     def test_equal_things_give_equal_answers_whatever_was_asked_between(self):
         for ask in ASKED + [shown_or_not]:
             before = [answer(ask, book) for book in self.books]
             after = [answer(ask, made_anew(book)) for book in reversed(self.books)]
+            self.assertEqual(before, after[::-1])
+        pairs = list(product(SOME_WORDS, repeat=2))
+        for ask in ASKED_OF_WORDS:
+            before = [ask(one, other) for one, other in pairs]
+            after = [ask(tuple(list(one)), tuple(list(other))) for one, other in reversed(pairs)]
             self.assertEqual(before, after[::-1])
 
     def test_answers_are_plain_things(self):
         for ask in ASKED:
             for book in self.books:
                 told = answer(ask, book)
-                if told is not errors.Uneven:
+                if told not in (errors.Uneven, errors.TooBig):
                     self.assertTrue(is_plain(told), (ask, book, told))
+        for ask in ASKED_OF_WORDS:
+            for one, other in product(SOME_WORDS, repeat=2):
+                self.assertTrue(is_plain(ask(one, other)), (ask, one, other))
 
     def test_nothing_handed_in_is_changed(self):
         lists = [[2, [[0, 1], [1, 0]]], (2, [(0, 1), (1, 0)]), (2, ([0, 1], [1, 0]))]
@@ -85,12 +140,23 @@ class WholeTest(unittest.TestCase):
         some = [((0, 1), 1), [(0, 0), 1]]
         self.assertRaises(errors.NoBook, kinds.book_of, 2, some)
         self.assertEqual(some, [((0, 1), 1), [(0, 0), 1]])
+        for ask in (wide.wide_reach, wide.wide_sum, others.with_word):
+            self.assertRaises(errors.NoWord, ask, (2, ((0, 1),)), word)
+        for ask in ASKED_OF_WORDS:
+            self.assertRaises(errors.NoWord, ask, word, (0, 1))
+            self.assertRaises(errors.NoWord, ask, (0, 1), word)
+        self.assertEqual(word, [0, 1])
+        for deeds in ([("keep",), ["out"]], [("keep",), ("put", 1)], [("put", 1), ("turn", [0])]):
+            before = copy.deepcopy(deeds)
+            self.assertRaises(errors.NoDeeds, gaps.done, (0, 1), deeds)
+            self.assertEqual(deeds, before)
 
     def test_lists_that_are_told_are_new_ones(self):
-        for book in large_even_books():
-            one = kinds.kinds(book)
-            one.append(None)
-            self.assertNotEqual(kinds.kinds(book), one)
+        for ask in (kinds.kinds, others.growing, lambda book: gaps.way(book[1][0], book[1][-1])):
+            for book in large_even_books():
+                one = ask(book)
+                one.append(None)
+                self.assertNotEqual(ask(book), one)
 
     def test_true_and_false_are_no_numbers(self):
         even = (2, ((0, 1), (1, 1)))
@@ -107,6 +173,16 @@ class WholeTest(unittest.TestCase):
             self.assertRaises(errors.NoBook, kinds.book_of, 2, [((0,), flag)])
             self.assertRaises(errors.NoBook, kinds.book_of, 2, [((flag,), 1)])
             self.assertRaises(errors.NoBook, kinds.book_of, 2, [((0, flag), 1)])
+            for ask in (wide.wide_reach, wide.wide_sum, others.with_word):
+                self.assertRaises(errors.NoWord, ask, even, (0, flag))
+            self.assertRaises(errors.NoNumber, others.without, even, flag)
+            self.assertRaises(errors.NoWord, gaps.done, (flag,), [("keep",)])
+            for name in ("turn", "put"):
+                self.assertRaises(errors.NoDeeds, gaps.done, (0,), [("keep",), (name, flag)])
+            self.assertRaises(errors.NoDeeds, gaps.done, (0,), [("turn", flag)])
+            for ask in (gaps.steps, gaps.way):
+                self.assertRaises(errors.NoWord, ask, (flag,), (1,))
+                self.assertRaises(errors.NoWord, ask, (1,), (flag,))
             self.assertIs(papers.shows(even, 0, ("weights", (1, flag))), False)
             self.assertIs(papers.shows(even, 0, ("place", flag, (("weights", (1, 1)),) * 2)), False)
 
